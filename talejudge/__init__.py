@@ -1,0 +1,1 @@
+"""Talejudge: tales of many hands judged against one store."""
