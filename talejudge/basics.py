@@ -1,4 +1,4 @@
-"""What a whole number, a worth and a name are.
+"""What a whole number, a worth, a name and a rising tuple are.
 
 All of these are asked of anything. So each looks first at what kind of value it has, and compares only then:
 a strange value may answer a comparison with anything.
@@ -29,3 +29,11 @@ def is_name(value):
 
 def is_tuple_of(value, many):
     return isinstance(value, tuple) and len(value) == many
+
+
+def are_whole(values):
+    return isinstance(values, tuple) and all([is_whole(value) for value in values])
+
+
+def is_rising(values):
+    return are_whole(values) and all([one < other for one, other in zip(values, values[1:])])

@@ -1,6 +1,6 @@
 """Things and deeds: the five kinds of things, their first states, and what each deed does to a state."""
 
-from talejudge.basics import is_tuple_of, is_worth
+from talejudge.basics import are_whole, is_rising, is_tuple_of, is_whole, is_worth
 from talejudge.errors import NoDeed
 
 FIRST_STATES = {"register": 0, "counter": 0, "queue": (), "set": (), "cell": 0}
@@ -77,6 +77,15 @@ def first_state(kind):
     if not is_kind(kind):
         raise NoDeed("this is no kind of things")
     return FIRST_STATES[kind]
+
+
+# Asked of anything as a state, but of kinds alone. The numbers in a state may go beyond worths.
+def is_state(kind, state):
+    if kind == "queue":
+        return are_whole(state)
+    if kind == "set":
+        return is_rising(state)
+    return is_whole(state)
 
 
 def is_deed(kind, verb, worth):
