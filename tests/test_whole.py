@@ -3,10 +3,16 @@
 import random
 import unittest
 
+from books import Book, chance_books
+from letters import chance_copies_plan, chance_run
+from makings import chance_maker_plans
 from model import STRICTNESSES, Model, all_small_tales, chance_state, chance_tales
 from plain import chance_plain_tales
 from talejudge.beginnings import bad_beginning, beginning
+from talejudge.copies import run_copies
+from talejudge.dealings import is_verdict, judged_dealings
 from talejudge.judge import judged
+from talejudge.makers import all_runs, bad_runs, run_maker
 from talejudge.orders import explains, has_to
 from talejudge.parts import joined, numbers_of, part
 from talejudge.places import all_places, first_place, is_full, nexts
@@ -109,15 +115,17 @@ class WholeTest(unittest.TestCase):
                     self.assertIs(is_full(tale, place), model.is_full(place))
 
 
-class WholeAndPartsTest(unittest.TestCase):
-    """The whole beside its parts, its beginnings and its zones."""
-
+class StrictTest(unittest.TestCase):
     def is_strict(self, tale):
         """By the model's word, and by the program's, which are the same."""
         model = Model(tale, "strict")
         strict = any([model.order_of(row)[1] for row in model.rows()])
         self.assertEqual(judged(tale, "strict") is not None, strict)
         return strict
+
+
+class WholeAndPartsTest(StrictTest):
+    """The whole beside its parts, its beginnings and its zones."""
 
     def look_at_parts(self, tale, strict):
         orders = [judged(part(tale, name), "strict") for name, kind in tale[0]]
@@ -163,6 +171,66 @@ class WholeAndPartsTest(unittest.TestCase):
                     self.assertEqual(turn_about(tale) is None, strict)
                     counts[strict] += 1
         self.assertGreater(min(counts.values()), 10, counts)
+
+
+class WholeRunsTest(StrictTest):
+    """Runs of copies and makers, and dealings."""
+
+    def test_runs_of_copies(self):
+        source = random.Random(12)
+        for number in range(250):
+            plan, many = chance_copies_plan(source, 4, 6), source.choice([3, 5])
+            tale = run_copies(many, plan, chance_run(source, many, plan, True, 150)[0], True)
+            with self.subTest(plan=plan, tale=tale):
+                self.assertIs(self.is_strict(tale), True)
+                self.assertIsNone(collision(tale))
+
+    def test_runs_of_copies_without_writing_back(self):
+        source = random.Random(13)
+        for number in range(250):
+            plan, many = chance_copies_plan(source, 4, 6, [0]), source.choice([3, 5])
+            tale = run_copies(many, plan, chance_run(source, many, plan, False, 150)[0], False)
+            with self.subTest(plan=plan, tale=tale):
+                self.assertIs(is_regular(tale), True)
+                self.assertEqual(turn_about(tale) is None, self.is_strict(tale))
+
+    def test_runs_of_makers_to_the_end(self):
+        torn = 0
+        for kind, way, plan in chance_maker_plans(14, 40, 4):
+            with self.subTest(kind=kind, way=way, plan=plan):
+                told = all_runs(kind, way, plan)
+                bad = bad_runs(kind, way, plan)
+                if len(told) < 100:
+                    self.assertEqual(bad, [tale for tale in told if not self.is_strict(tale)])
+                if way == "swapping":
+                    self.assertEqual(bad, [])
+                torn += len(bad)
+        self.assertGreater(torn, 30)
+
+    def test_runs_of_makers_by_choices(self):
+        source = random.Random(15)
+        for kind, way, plan in chance_maker_plans(16, 200, 5):
+            choices = [source.randrange(-10, 10) for number in range(source.randrange(25))]
+            tale = run_maker(kind, "swapping", plan, choices)
+            with self.subTest(kind=kind, plan=plan, choices=choices):
+                self.assertIs(self.is_strict(tale), True)
+
+    def test_dealings_have_an_order_or_a_ring(self):
+        counts = {"order": 0, "ring": 0}
+        for dealings, versions in chance_books(17, 400, 5, 3):
+            for timed in [True, False]:
+                book = Book(dealings, versions, timed)
+                if book.lost() is None:
+                    with self.subTest(dealings=dealings, versions=versions, timed=timed):
+                        orders, rings = book.orders(), book.rings()
+                        self.assertNotEqual(len(orders) > 0, len(rings) > 0)
+                        told = judged_dealings(dealings, versions, timed)
+                        self.assertIn(told[1], orders if told[0] == "order" else rings)
+                        verdicts = [("order", row) for row in orders[:9]] + [("ring", ring) for ring in rings[:9]]
+                        for verdict in verdicts:
+                            self.assertIs(is_verdict(dealings, versions, timed, verdict), True)
+                        counts[told[0]] += 1
+        self.assertGreater(min(counts.values()), 50, counts)
 
 
 if __name__ == "__main__":
